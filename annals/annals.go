@@ -1,0 +1,174 @@
+// Package annals: a store of all its yesterdays, and copies of them: see DOC.md.
+package annals
+
+import (
+	"strings"
+
+	"annals/api"
+	"annals/past"
+)
+
+// Store keeps values under keys, and what they were. The zero Store is one at the state 0.
+type Store struct {
+	now   int           // the number of the last state
+	begun int           // the number of the last work
+	works map[int]*work // the open ones
+	past  past.Past
+}
+
+// New makes a store (P3).
+func New() *Store { return &Store{} }
+
+// Begin begins a work (P3).
+func (s *Store) Begin() (number int, err api.Errno) {
+	var c change
+	defer func() { c.settle(recover(), &err) }()
+	if s == nil {
+		return 0, api.ErrNone
+	}
+	if len(s.works) >= api.MaxOpen {
+		return 0, api.ErrFull
+	}
+	if s.works == nil {
+		assign(&c, &s.works, map[int]*work{})
+	}
+	assign(&c, &s.begun, s.begun+1)
+	enter(&c, s.works, s.begun, &work{began: s.now, writes: map[string]past.Version{}})
+	return s.begun, api.OK
+}
+
+// Get tells a value (P3).
+func (s *Store) Get(work int, key string) (string, api.Errno) {
+	w := s.find(work)
+	if w == nil {
+		return "", api.ErrNone
+	}
+	if !isKey(key) {
+		return "", api.ErrText
+	}
+	value, stands := s.see(w, key)
+	if !stands {
+		return "", api.ErrNone
+	}
+	return value, api.OK
+}
+
+// Put puts one (P3).
+func (s *Store) Put(work int, key string, value string) api.Errno {
+	return s.write(work, key, past.Version{Value: value})
+}
+
+// Delete deletes a key (P3).
+func (s *Store) Delete(work int, key string) api.Errno {
+	return s.write(work, key, past.Version{Gone: true})
+}
+
+// write notes what a work has put or deleted.
+func (s *Store) write(work int, key string, v past.Version) (err api.Errno) {
+	var c change
+	defer func() { c.settle(recover(), &err) }()
+	w := s.find(work)
+	if w == nil {
+		return api.ErrNone
+	}
+	if !isKey(key) || !isValue(v.Value) {
+		return api.ErrText
+	}
+	if _, again := w.writes[key]; !again && len(w.writes) >= api.MaxWrites {
+		return api.ErrFull
+	}
+	v.Value = strings.Clone(v.Value) // a short text may be a piece of a long one, which is not to be kept
+	enter(&c, w.writes, strings.Clone(key), v)
+	return api.OK
+}
+
+// Scan tells keys and values (P3).
+func (s *Store) Scan(work int, from string, most int) ([]api.Pair, api.Errno) {
+	w := s.find(work)
+	if w == nil {
+		return nil, api.ErrNone
+	}
+	if len(from) > api.MaxKey {
+		return nil, api.ErrText
+	}
+	var pairs []api.Pair
+	for key := range merged(s.past.Keys(from), w.keys(from)) {
+		if len(pairs) == most {
+			break
+		}
+		if value, stands := s.see(w, key); stands {
+			pairs = append(pairs, api.Pair{Key: key, Value: value})
+		}
+	}
+	return pairs, api.OK
+}
+
+// Commit makes a work the next state (P4).
+func (s *Store) Commit(work int) (state int, err api.Errno) {
+	var c change
+	defer func() { c.settle(recover(), &err) }()
+	w := s.find(work)
+	if w == nil {
+		return 0, api.ErrNone
+	}
+	if len(w.writes) == 0 {
+		remove(&c, s.works, work)
+		return w.began, api.OK
+	}
+	if s.now >= api.MaxState {
+		return 0, api.ErrFull
+	}
+	if err := s.become(&c, w); err != api.OK {
+		delete(s.works, work) // past the change, which takes all else back: a work that clashes is over, too
+		return 0, err
+	}
+	remove(&c, s.works, work)
+	return s.now, api.OK
+}
+
+// Abort ends a work (P4).
+func (s *Store) Abort(work int) (err api.Errno) {
+	var c change
+	defer func() { c.settle(recover(), &err) }()
+	if s.find(work) == nil {
+		return api.ErrNone
+	}
+	remove(&c, s.works, work)
+	return api.OK
+}
+
+// Pin holds a state (P5).
+func (s *Store) Pin(state int) api.Errno { return api.OK }
+
+// Unpin lets it go (P5).
+func (s *Store) Unpin(state int) api.Errno { return api.OK }
+
+// Sweep throws old versions away (P5).
+func (s *Store) Sweep() int { return 0 }
+
+// Look tells how the store stands (P5).
+func (s *Store) Look() api.State { return api.State{} }
+
+// Encode writes a stream (P6).
+func Encode(x api.Stream) (string, api.Errno) { return "", api.OK }
+
+// Decode reads one (P6).
+func Decode(text string) (api.Stream, int, api.Errno) { return api.Stream{}, 0, api.OK }
+
+// Merge puts streams together (P7).
+func Merge(texts []string) (string, api.Errno) { return "", api.OK }
+
+// Start begins a copying (P8).
+func (s *Store) Start(full bool, from int, to int) (int, api.Errno) { return 0, api.OK }
+
+// Next tells its next piece (P8).
+func (s *Store) Next(copying int) (string, bool, api.Errno) { return "", false, api.OK }
+
+// Stop ends it (P8).
+func (s *Store) Stop(copying int) api.Errno { return api.OK }
+
+// Restore makes a store of a stream (P9).
+func Restore(text string) (*Store, api.Errno) { return nil, api.OK }
+
+// Apply brings a store on by a stream (P9).
+func (s *Store) Apply(text string) api.Errno { return api.OK }

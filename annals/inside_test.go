@@ -1,0 +1,124 @@
+package annals
+
+// What can't be brought about by calls alone yet: the last state of all, and calls that break off.
+
+import (
+	"slices"
+	"strconv"
+	"testing"
+
+	"annals/api"
+)
+
+// P4: at the last state nothing more becomes; that is told ahead of a clash, and the work is not over.
+func TestP4LastState(t *testing.T) {
+	s := New()
+	s.now = api.MaxState - 1
+	for range 4 {
+		s.Begin()
+	}
+	s.Put(1, "a", "1")
+	s.Put(2, "a", "2")
+	s.Delete(3, "b")
+	wantCommit(t, s, 1, api.MaxState, api.OK)
+	for range 2 {
+		wantCommit(t, s, 2, 0, api.ErrFull)
+		wantCommit(t, s, 3, 0, api.ErrFull)
+	}
+	if v, err := s.Get(2, "a"); v != "2" || err != api.OK {
+		t.Errorf("Get(2, a) = %q, %d behind a refused Commit", v, err)
+	}
+	wantCommit(t, s, 4, api.MaxState-1, api.OK)
+	s.Begin()
+	if list, _ := s.Scan(5, "", -1); !slices.Equal(list, []api.Pair{{Key: "a", Value: "1"}}) {
+		t.Errorf("Scan at the last state = %q", list)
+	}
+	wantCommit(t, s, 5, api.MaxState, api.OK)
+	if err := s.Abort(2); err != api.OK {
+		t.Errorf("Abort(2) = %d", err)
+	}
+}
+
+func wantCommit(t *testing.T, s *Store, work, want int, wantErr api.Errno) {
+	t.Helper()
+	if n, err := s.Commit(work); n != want || err != wantErr {
+		t.Errorf("Commit(%d) = %d, %d, want %d, %d", work, n, err, want, wantErr)
+	}
+}
+
+// P1: a call that breaks off panics for nobody, answers an error, and has changed nothing.
+func TestP1BrokenCallIsPutRight(t *testing.T) {
+	s := New()
+	s.works = map[int]*work{1: {}} // its writes can't be written into
+	s.begun = 1
+	if err := s.Put(1, "a", "1"); err == api.OK {
+		t.Error("Put that broke off answers OK")
+	}
+	if _, err := s.Get(1, "a"); err != api.ErrNone {
+		t.Errorf("Get behind it = %d", err)
+	}
+	if n, err := s.Begin(); n != 2 || err != api.OK {
+		t.Errorf("Begin behind it = %d, %d", n, err)
+	}
+}
+
+// steps does several things to a store, as a call does, and ends as it is told.
+func steps(s *Store, m map[string]int, end func() api.Errno) (err api.Errno) {
+	var c change
+	defer func() { c.settle(recover(), &err) }()
+	assign(&c, &s.now, 5)
+	assign(&c, &s.now, 6)
+	enter(&c, m, "old", 2)
+	enter(&c, m, "new", 1)
+	remove(&c, m, "old")
+	remove(&c, m, "never")
+	remove(&c, m, "kept")
+	return end()
+}
+
+func TestP1ChangesAreTakenBack(t *testing.T) {
+	for _, c := range []struct {
+		name string
+		end  func() api.Errno
+		err  api.Errno
+	}{
+		{"an error", func() api.Errno { return api.ErrClash }, api.ErrClash},
+		{"a panic", func() api.Errno { panic("broken") }, api.ErrFull},
+	} {
+		s, m := New(), map[string]int{"old": 1, "kept": 7}
+		s.now = 3
+		if err := steps(s, m, c.end); err != c.err {
+			t.Errorf("%s: answers %d, want %d", c.name, err, c.err)
+		}
+		if s.now != 3 || len(m) != 2 || m["old"] != 1 || m["kept"] != 7 {
+			t.Errorf("%s: leaves %d, %v", c.name, s.now, m)
+		}
+	}
+	s, m := New(), map[string]int{"old": 1, "kept": 7}
+	if err := steps(s, m, func() api.Errno { return api.OK }); err != api.OK {
+		t.Errorf("a call that ends answers %d", err)
+	}
+	if s.now != 6 || len(m) != 1 || m["new"] != 1 {
+		t.Errorf("a call that ends leaves %d, %v", s.now, m)
+	}
+}
+
+// P1: behind a clash not one version is left that was not there before.
+func TestP1ClashLeavesNoVersion(t *testing.T) {
+	s := New()
+	s.Begin()
+	s.Begin()
+	s.Put(1, "m", "1")
+	s.Commit(1)
+	for i := range 20 {
+		s.Put(2, "k"+strconv.Itoa(i), "2")
+	}
+	s.Delete(2, "m")
+	wantCommit(t, s, 2, 0, api.ErrClash)
+	if keys := s.past.Keys(""); !slices.Equal(keys, []string{"m"}) {
+		t.Errorf("keys behind a clash: %q", keys)
+	}
+	if s.now != 1 || s.past.Last("m") != 1 || len(s.works) != 0 {
+		t.Errorf("behind a clash: now %d, last %d, %d works", s.now, s.past.Last("m"), len(s.works))
+	}
+}
