@@ -11,8 +11,10 @@ import (
 // Store keeps values under keys, and what they were. The zero Store is one at the state 0.
 type Store struct {
 	now   int           // the number of the last state
+	floor int           // the least state that is whole
 	begun int           // the number of the last work
 	works map[int]*work // the open ones
+	pins  map[int]int   // of each pinned state, how often it is
 	past  past.Past
 }
 
@@ -138,16 +140,57 @@ func (s *Store) Abort(work int) (err api.Errno) {
 }
 
 // Pin holds a state (P5).
-func (s *Store) Pin(state int) api.Errno { return api.OK }
+func (s *Store) Pin(state int) (err api.Errno) {
+	var c change
+	defer func() { c.settle(recover(), &err) }()
+	if s == nil {
+		return api.ErrNone
+	}
+	if state < s.floor || state > s.now {
+		return api.ErrPast
+	}
+	if s.pins == nil {
+		assign(&c, &s.pins, map[int]int{})
+	}
+	enter(&c, s.pins, state, s.pins[state]+1)
+	return api.OK
+}
 
 // Unpin lets it go (P5).
-func (s *Store) Unpin(state int) api.Errno { return api.OK }
+func (s *Store) Unpin(state int) (err api.Errno) {
+	var c change
+	defer func() { c.settle(recover(), &err) }()
+	if s == nil || s.pins[state] == 0 {
+		return api.ErrNone
+	}
+	if s.pins[state] == 1 {
+		remove(&c, s.pins, state)
+	} else {
+		enter(&c, s.pins, state, s.pins[state]-1)
+	}
+	return api.OK
+}
 
 // Sweep throws old versions away (P5).
-func (s *Store) Sweep() int { return 0 }
+func (s *Store) Sweep() int {
+	var c change
+	var err api.Errno // for nobody to hear: a Sweep that breaks off has thrown nothing away
+	defer func() { c.settle(recover(), &err) }()
+	if s == nil {
+		return 0
+	}
+	least := s.leastHeld()
+	assign(&c, &s.floor, least)
+	return s.past.Sweep(least, c.undoBy)
+}
 
 // Look tells how the store stands (P5).
-func (s *Store) Look() api.State { return api.State{} }
+func (s *Store) Look() api.State {
+	if s == nil {
+		return api.State{}
+	}
+	return api.State{Now: s.now, Floor: s.floor, Open: len(s.works), Pins: s.allPins(), Versions: s.past.Count()}
+}
 
 // Encode writes a stream (P6).
 func Encode(x api.Stream) (string, api.Errno) { return "", api.OK }

@@ -133,7 +133,11 @@ func TestP1OtherStores(t *testing.T) {
 	var zero annals.Store
 	begin(t, &zero, 1)
 	put(t, &zero, 1, "a", "1", api.OK)
+	unpin(t, &zero, 0, api.ErrNone)
+	pin(t, &zero, 0, api.OK)
+	sweep(t, &zero, 0)
 	commit(t, &zero, 1, 1, api.OK)
+	look(t, &zero, api.State{Now: 1, Pins: 1, Versions: 1})
 	var none *annals.Store
 	if n, err := none.Begin(); n != 0 || err != api.ErrNone {
 		t.Errorf("Begin of no store = %d, %d", n, err)
@@ -143,6 +147,10 @@ func TestP1OtherStores(t *testing.T) {
 	del(t, none, 1, "a", api.ErrNone)
 	commit(t, none, 1, 0, api.ErrNone)
 	abort(t, none, 1, api.ErrNone)
+	pin(t, none, 0, api.ErrNone)
+	unpin(t, none, 0, api.ErrNone)
+	sweep(t, none, 0)
+	look(t, none, api.State{})
 	if list, err := none.Scan(1, "", -1); len(list) != 0 || err != api.ErrNone {
 		t.Errorf("Scan of no store = %q, %d", list, err)
 	}

@@ -2,6 +2,7 @@ package annals_test
 
 import (
 	"slices"
+	"strings"
 	"testing"
 
 	"annals/annals"
@@ -74,4 +75,50 @@ func flat(list []api.Pair) []string {
 		out = append(out, p.Key, p.Value)
 	}
 	return out
+}
+
+func pin(t *testing.T, s *annals.Store, state int, want api.Errno) {
+	t.Helper()
+	if err := s.Pin(state); err != want {
+		t.Errorf("Pin(%d) = %d, want %d", state, err, want)
+	}
+}
+
+func unpin(t *testing.T, s *annals.Store, state int, want api.Errno) {
+	t.Helper()
+	if err := s.Unpin(state); err != want {
+		t.Errorf("Unpin(%d) = %d, want %d", state, err, want)
+	}
+}
+
+func sweep(t *testing.T, s *annals.Store, want int) {
+	t.Helper()
+	if n := s.Sweep(); n != want {
+		t.Errorf("Sweep() = %d, want %d", n, want)
+	}
+}
+
+func look(t *testing.T, s *annals.Store, want api.State) {
+	t.Helper()
+	if got := s.Look(); got != want {
+		t.Errorf("Look() = %+v, want %+v", got, want)
+	}
+}
+
+// next makes the next state by a work of its own: "a=x" puts, "-a" deletes.
+func next(t *testing.T, s *annals.Store, writes ...string) {
+	t.Helper()
+	work, err := s.Begin()
+	if err != api.OK {
+		t.Fatalf("Begin() = %d", err)
+	}
+	for _, text := range writes {
+		if key, gone := strings.CutPrefix(text, "-"); gone {
+			del(t, s, work, key, api.OK)
+		} else {
+			key, value, _ := strings.Cut(text, "=")
+			put(t, s, work, key, value, api.OK)
+		}
+	}
+	commit(t, s, work, s.Look().Now+1, api.OK)
 }

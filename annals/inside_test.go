@@ -62,6 +62,39 @@ func TestP1BrokenCallIsPutRight(t *testing.T) {
 	}
 }
 
+// P1: so does a Sweep, though it has no error to answer.
+func TestP1BrokenSweepThrowsNothingAway(t *testing.T) {
+	s := New()
+	for _, value := range []string{"1", "2"} {
+		n, _ := s.Begin()
+		s.Put(n, "a", value)
+		s.Commit(n)
+	}
+	s.works[9] = nil // when that one began can't be asked
+	before := s.Look()
+	if n := s.Sweep(); n != 0 || s.Look() != before {
+		t.Errorf("Sweep that broke off = %d and leaves %+v", n, s.Look())
+	}
+	delete(s.works, 9)
+	if n := s.Sweep(); n != 1 {
+		t.Errorf("Sweep behind it = %d", n)
+	}
+}
+
+// P5: no pin is left of a state that is not pinned any more.
+func TestP5UnpinLeavesNothing(t *testing.T) {
+	s := New()
+	for range 3 {
+		s.Pin(0)
+	}
+	for range 3 {
+		s.Unpin(0)
+	}
+	if len(s.pins) != 0 {
+		t.Errorf("pins: %v", s.pins)
+	}
+}
+
 // steps does several things to a store, as a call does, and ends as it is told.
 func steps(s *Store, m map[string]int, end func() api.Errno) (err api.Errno) {
 	var c change

@@ -74,4 +74,10 @@ func TestP2StoresAreApart(t *testing.T) {
 	begin(t, one, 3)
 	get(t, two, 2, "a", "two")
 	get(t, one, 3, "a", "one")
+	pin(t, one, 0, api.OK)
+	unpin(t, two, 0, api.ErrNone)
+	abort(t, two, 2, api.OK)
+	sweep(t, two, 0)
+	look(t, two, api.State{Now: 1, Floor: 1, Versions: 1})
+	look(t, one, api.State{Now: 1, Open: 2, Pins: 1, Versions: 1})
 }

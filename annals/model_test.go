@@ -1,6 +1,6 @@
 package annals_test
 
-// P3 and P4 held against a plain model: every state kept whole.
+// P3 to P5 held against a plain model: every state kept whole, and a list of all versions.
 
 import (
 	"maps"
@@ -19,11 +19,20 @@ type modelWork struct {
 	written map[string]int
 }
 
+type modelVersion struct {
+	key   string
+	state int
+	gone  bool
+}
+
 type model struct {
-	states []map[string]string
-	wrote  []map[string]int // the keys that each state has put or deleted
-	works  map[int]*modelWork
-	begun  int
+	states   []map[string]string
+	wrote    []map[string]int // the keys that each state has put or deleted
+	works    map[int]*modelWork
+	begun    int
+	versions []modelVersion
+	pins     []int
+	floor    int
 }
 
 func newModel() *model {
@@ -114,9 +123,53 @@ func (m *model) commit(work int) (int, api.Errno) {
 			delete(next, key)
 		}
 	}
+	for key := range w.written {
+		_, stands := next[key]
+		m.versions = append(m.versions, modelVersion{key, m.now() + 1, !stands})
+	}
 	m.states = append(m.states, next)
 	m.wrote = append(m.wrote, w.written)
 	return m.now(), api.OK
+}
+
+func (m *model) pin(state int) api.Errno {
+	if state < m.floor || state > m.now() {
+		return api.ErrPast
+	}
+	m.pins = append(m.pins, state)
+	return api.OK
+}
+
+func (m *model) unpin(state int) api.Errno {
+	at := slices.Index(m.pins, state)
+	if at < 0 {
+		return api.ErrNone
+	}
+	m.pins = slices.Delete(m.pins, at, at+1)
+	return api.OK
+}
+
+func (m *model) sweep() int {
+	held := append([]int{m.now()}, m.pins...)
+	for _, w := range m.works {
+		held = append(held, w.began)
+	}
+	m.floor = slices.Min(held)
+	of := map[string]int{} // each key's version of the floor
+	for _, v := range m.versions {
+		if v.state <= m.floor {
+			of[v.key] = max(of[v.key], v.state)
+		}
+	}
+	before := len(m.versions)
+	m.versions = slices.DeleteFunc(m.versions, func(v modelVersion) bool {
+		return v.state < of[v.key] || v.state == of[v.key] && v.gone
+	})
+	return before - len(m.versions)
+}
+
+func (m *model) look() api.State {
+	return api.State{Now: m.now(), Floor: m.floor, Open: len(m.works), Pins: len(m.pins), Versions: len(m.versions)}
 }
 
 func (m *model) abort(work int) api.Errno {
@@ -145,22 +198,52 @@ func pick(r *rand.Rand) string {
 	return b.String()
 }
 
-func TestP3P4Model(t *testing.T) {
+// pickWork gives mostly a work that is open.
+func pickWork(r *rand.Rand, m *model) int {
+	if open := slices.Sorted(maps.Keys(m.works)); len(open) > 0 && r.Intn(5) > 0 {
+		return open[r.Intn(len(open))]
+	}
+	return m.begun + 1 - r.Intn(12)
+}
+
+func TestModel(t *testing.T) {
 	for seed := range int64(20) {
 		r := rand.New(rand.NewSource(seed))
 		s, m := annals.New(), newModel()
 		for step := 0; step < 4000 && !t.Failed(); step++ {
-			modelStep(t, r, s, m)
+			if r.Intn(8) == 0 {
+				heldStep(t, r, s, m)
+			} else {
+				modelStep(t, r, s, m)
+			}
+			look(t, s, m.look())
 		}
-		if m.now() < 20 {
-			t.Errorf("seed %d: only %d states have become", seed, m.now())
+		if m.now() < 50 || m.floor < 30 {
+			t.Errorf("seed %d: only %d states have become, %d below the floor", seed, m.now(), m.floor)
 		}
+	}
+}
+
+// heldStep pins, unpins or sweeps. States far back are let go sooner or later, so that the floor comes on.
+func heldStep(t *testing.T, r *rand.Rand, s *annals.Store, m *model) {
+	t.Helper()
+	state := m.floor - 1 + r.Intn(m.now()-m.floor+3)
+	switch kind := r.Intn(10); {
+	case kind < 3 && len(m.pins) < 6:
+		pin(t, s, state, m.pin(state))
+	case kind < 6:
+		unpin(t, s, state, m.unpin(state))
+	case kind < 8 && len(m.pins) > 0:
+		state = m.pins[r.Intn(len(m.pins))]
+		unpin(t, s, state, m.unpin(state))
+	default:
+		sweep(t, s, m.sweep())
 	}
 }
 
 func modelStep(t *testing.T, r *rand.Rand, s *annals.Store, m *model) {
 	t.Helper()
-	work := m.begun - r.Intn(12)
+	work := pickWork(r, m)
 	switch kind := r.Intn(40); {
 	case kind < 4:
 		n, err := s.Begin()

@@ -60,6 +60,122 @@ func TestKeys(t *testing.T) {
 	}
 }
 
+func TestCount(t *testing.T) {
+	if n := made().Count(); n != 5 {
+		t.Errorf("Count = %d", n)
+	}
+	if n := new(Past).Count(); n != 0 {
+		t.Errorf("Count of none = %d", n)
+	}
+}
+
+// forGood is for a Sweep that nobody takes back.
+func forGood(func()) {}
+
+func TestSweep(t *testing.T) {
+	for _, c := range []struct{ least, thrown, b int }{
+		{0, 0, 3}, {2, 0, 3}, {4, 0, 3}, {5, 2, 1}, {8, 2, 1}, {9, 2, 1}, {100, 2, 1},
+	} {
+		p := made()
+		var before []Version
+		for state := range 20 {
+			v, _ := p.At("b", c.least+state)
+			before = append(before, v)
+		}
+		if n := p.Sweep(c.least, forGood); n != c.thrown || p.Count() != 5-c.thrown || len(p.versions["b"]) != c.b {
+			t.Errorf("Sweep(%d) = %d, leaves %v", c.least, n, p.versions)
+		}
+		for state, want := range before {
+			v, _ := p.At("b", c.least+state)
+			if v != want && !(want.Gone && v == Version{}) {
+				t.Errorf("Sweep(%d): At(b, %d) = %v, was %v", c.least, c.least+state, v, want)
+			}
+		}
+		if n := p.Sweep(c.least, forGood); n != 0 {
+			t.Errorf("Sweep(%d) once more = %d", c.least, n)
+		}
+	}
+}
+
+func TestSweepForgetsKeys(t *testing.T) {
+	p := made()
+	p.Add("a", Version{State: 10, Gone: true})
+	p.Add("c", Version{State: 11, Gone: true})
+	if n := p.Sweep(10, forGood); n != 4 {
+		t.Errorf("Sweep = %d", n)
+	}
+	if keys := p.Keys(""); !slices.Equal(keys, []string{"b", "c"}) || len(p.versions) != 2 {
+		t.Errorf("Keys behind Sweep = %q, versions %v", keys, p.versions)
+	}
+	if p.Last("a") != 0 || p.Last("b") != 9 || p.Last("c") != 11 {
+		t.Errorf("Last behind Sweep: %d, %d, %d", p.Last("a"), p.Last("b"), p.Last("c"))
+	}
+	p.Add("a", Version{State: 12, Value: "again"})
+	if keys := p.Keys(""); !slices.Equal(keys, []string{"a", "b", "c"}) {
+		t.Errorf("Keys behind Add once more = %q", keys)
+	}
+	if n := new(Past).Sweep(3, forGood); n != 0 {
+		t.Errorf("Sweep of nothing = %d", n)
+	}
+}
+
+// What is thrown away is kept by nothing: the rest has memory of its own.
+func TestSweepLetsMemoryGo(t *testing.T) {
+	var p Past
+	for state := range 1000 {
+		p.Add("a", Version{State: state + 1, Value: "x"})
+	}
+	old := p.versions["a"]
+	p.Sweep(999, forGood)
+	left := p.versions["a"]
+	if len(left) != 2 || cap(left) > 4 {
+		t.Fatalf("%d are left, with room for %d", len(left), cap(left))
+	}
+	p.Add("a", Version{State: 1001, Value: "new"})
+	if &left[0] == &old[998] || old[999].State != 1000 {
+		t.Error("the rest lies in the old memory")
+	}
+}
+
+// A Sweep that breaks off at any of its steps can be taken back.
+func TestSweepIsTakenBack(t *testing.T) {
+	for stop := range 5 {
+		p, want := made(), made()
+		for _, x := range []*Past{p, want} {
+			x.Add("a", Version{State: 10, Gone: true})
+		}
+		if broke := sweepUntil(p, 10, stop); broke != (stop < 3) {
+			t.Errorf("with %d steps it breaks off: %v", stop, broke)
+		}
+		if !slices.Equal(p.keys, want.keys) || len(p.versions) != len(want.versions) {
+			t.Errorf("with %d steps: keys %q, versions %v", stop, p.keys, p.versions)
+		}
+		for key, all := range want.versions {
+			if !slices.Equal(p.versions[key], all) {
+				t.Errorf("with %d steps: %s has %v", stop, key, p.versions[key])
+			}
+		}
+	}
+}
+
+// sweepUntil sweeps, breaks off behind so many steps, and takes them back.
+func sweepUntil(p *Past, least, stop int) (broke bool) {
+	var back []func()
+	defer func() {
+		broke = recover() != nil
+		for _, step := range slices.Backward(back) {
+			step()
+		}
+	}()
+	p.Sweep(least, func(step func()) {
+		if len(back) == stop {
+			panic("broken off")
+		}
+		back = append(back, step)
+	})
+	return false
+}
+
 func TestDrop(t *testing.T) {
 	p := made()
 	held := p.versions["b"]
