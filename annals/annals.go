@@ -2,10 +2,13 @@
 package annals
 
 import (
+	"errors"
 	"strings"
 
 	"annals/api"
+	"annals/bounds"
 	"annals/past"
+	"annals/stream"
 )
 
 // Store keeps values under keys, and what they were. The zero Store is one at the state 0.
@@ -45,7 +48,7 @@ func (s *Store) Get(work int, key string) (string, api.Errno) {
 	if w == nil {
 		return "", api.ErrNone
 	}
-	if !isKey(key) {
+	if !bounds.IsKey(key) {
 		return "", api.ErrText
 	}
 	value, stands := s.see(w, key)
@@ -73,7 +76,7 @@ func (s *Store) write(work int, key string, v past.Version) (err api.Errno) {
 	if w == nil {
 		return api.ErrNone
 	}
-	if !isKey(key) || !isValue(v.Value) {
+	if !bounds.IsKey(key) || !bounds.IsValue(v.Value) {
 		return api.ErrText
 	}
 	if _, again := w.writes[key]; !again && len(w.writes) >= api.MaxWrites {
@@ -193,13 +196,54 @@ func (s *Store) Look() api.State {
 }
 
 // Encode writes a stream (P6).
-func Encode(x api.Stream) (string, api.Errno) { return "", api.OK }
+func Encode(x api.Stream) (string, api.Errno) {
+	text, err := stream.Write(x)
+	if err != nil {
+		return "", api.ErrForm
+	}
+	return text, api.OK
+}
 
 // Decode reads one (P6).
-func Decode(text string) (api.Stream, int, api.Errno) { return api.Stream{}, 0, api.OK }
+func Decode(text string) (api.Stream, int, api.Errno) {
+	x, err := stream.Read(text)
+	if err == nil {
+		return x, 0, api.OK
+	}
+	if errors.Is(err, stream.ErrSum) {
+		return api.Stream{}, 0, api.ErrSum
+	}
+	return api.Stream{}, placeOf(err), api.ErrForm
+}
+
+// placeOf tells the place of a fault in a text, 0 if an error has none.
+func placeOf(err error) int {
+	var fault *stream.Fault
+	if errors.As(err, &fault) {
+		return fault.Place
+	}
+	return 0
+}
 
 // Merge puts streams together (P7).
-func Merge(texts []string) (string, api.Errno) { return "", api.OK }
+func Merge(texts []string) (string, api.Errno) {
+	if len(texts) == 0 {
+		return "", api.ErrForm
+	}
+	var c stream.Chain
+	follow := true
+	for _, text := range texts {
+		x, _, err := Decode(text)
+		if err != api.OK {
+			return "", api.ErrForm // also behind one that does not follow: that is named later
+		}
+		follow = follow && c.Add(x)
+	}
+	if !follow {
+		return "", api.ErrChain
+	}
+	return Encode(c.Stream())
+}
 
 // Start begins a copying (P8).
 func (s *Store) Start(full bool, from int, to int) (int, api.Errno) { return 0, api.OK }

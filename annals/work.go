@@ -87,11 +87,3 @@ func behind(list []string, key string) []string {
 	}
 	return list
 }
-
-func isKey(text string) bool {
-	return len(text) >= 1 && len(text) <= api.MaxKey
-}
-
-func isValue(text string) bool {
-	return len(text) <= api.MaxValue
-}
