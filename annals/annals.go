@@ -13,12 +13,14 @@ import (
 
 // Store keeps values under keys, and what they were. The zero Store is one at the state 0.
 type Store struct {
-	now   int           // the number of the last state
-	floor int           // the least state that is whole
-	begun int           // the number of the last work
-	works map[int]*work // the open ones
-	pins  map[int]int   // of each pinned state, how often it is
-	past  past.Past
+	now      int             // the number of the last state
+	floor    int             // the least state that is whole
+	begun    int             // the number of the last work
+	works    map[int]*work   // the open ones
+	pins     map[int]int     // of each pinned state, how often it is
+	started  int             // the number of the last copying
+	copyings map[int]copying // the open ones
+	past     past.Past
 }
 
 // New makes a store (P3).
@@ -149,7 +151,7 @@ func (s *Store) Pin(state int) (err api.Errno) {
 	if s == nil {
 		return api.ErrNone
 	}
-	if state < s.floor || state > s.now {
+	if !s.has(state) {
 		return api.ErrPast
 	}
 	if s.pins == nil {
@@ -192,7 +194,10 @@ func (s *Store) Look() api.State {
 	if s == nil {
 		return api.State{}
 	}
-	return api.State{Now: s.now, Floor: s.floor, Open: len(s.works), Pins: s.allPins(), Versions: s.past.Count()}
+	return api.State{
+		Now: s.now, Floor: s.floor, Open: len(s.works), Pins: s.allPins(),
+		Versions: s.past.Count(), Copies: len(s.copyings),
+	}
 }
 
 // Encode writes a stream (P6).
@@ -246,16 +251,81 @@ func Merge(texts []string) (string, api.Errno) {
 }
 
 // Start begins a copying (P8).
-func (s *Store) Start(full bool, from int, to int) (int, api.Errno) { return 0, api.OK }
+func (s *Store) Start(full bool, from int, to int) (number int, err api.Errno) {
+	var c change
+	defer func() { c.settle(recover(), &err) }()
+	if s == nil {
+		return 0, api.ErrNone
+	}
+	x := copying{full: full, from: from, to: to}
+	if err := s.judge(x); err != api.OK {
+		return 0, err
+	}
+	if s.copyings == nil {
+		assign(&c, &s.copyings, map[int]copying{})
+	}
+	assign(&c, &s.started, s.started+1)
+	enter(&c, s.copyings, s.started, x)
+	return s.started, api.OK
+}
 
 // Next tells its next piece (P8).
-func (s *Store) Next(copying int) (string, bool, api.Errno) { return "", false, api.OK }
+func (s *Store) Next(copying int) (piece string, over bool, err api.Errno) {
+	var c change
+	defer func() { c.settle(recover(), &err) }()
+	x, open := s.findCopying(copying)
+	if !open {
+		return "", false, api.ErrNone
+	}
+	text, last := s.goOn(&x)
+	if last {
+		remove(&c, s.copyings, copying)
+	} else {
+		enter(&c, s.copyings, copying, x)
+	}
+	return text, last, api.OK
+}
 
 // Stop ends it (P8).
-func (s *Store) Stop(copying int) api.Errno { return api.OK }
+func (s *Store) Stop(copying int) (err api.Errno) {
+	var c change
+	defer func() { c.settle(recover(), &err) }()
+	if _, open := s.findCopying(copying); !open {
+		return api.ErrNone
+	}
+	remove(&c, s.copyings, copying)
+	return api.OK
+}
 
 // Restore makes a store of a stream (P9).
-func Restore(text string) (*Store, api.Errno) { return nil, api.OK }
+func Restore(text string) (*Store, api.Errno) {
+	x, _, err := Decode(text)
+	if err != api.OK || !x.Full {
+		return nil, api.ErrForm
+	}
+	var c change // nobody has the store yet who could want it put right
+	s := New()
+	s.follow(&c, x)
+	s.floor = s.now
+	return s, api.OK
+}
 
 // Apply brings a store on by a stream (P9).
-func (s *Store) Apply(text string) api.Errno { return api.OK }
+func (s *Store) Apply(text string) (err api.Errno) {
+	var c change
+	defer func() { c.settle(recover(), &err) }()
+	if s == nil {
+		return api.ErrNone
+	}
+	x, _, wrong := Decode(text)
+	switch {
+	case wrong != api.OK || x.Full:
+		return api.ErrForm
+	case x.From != s.now:
+		return api.ErrChain
+	case len(s.works) > 0:
+		return api.ErrBusy
+	}
+	s.follow(&c, x)
+	return api.OK
+}

@@ -138,6 +138,15 @@ func TestP1OtherStores(t *testing.T) {
 	sweep(t, &zero, 0)
 	commit(t, &zero, 1, 1, api.OK)
 	look(t, &zero, api.State{Now: 1, Pins: 1, Versions: 1})
+	noPiece(t, &zero, 1)
+	stop(t, &zero, 1, api.ErrNone)
+	start(t, &zero, full(1), 1)
+	copies(t, &zero, 1, 0, full(1, "a=1"))
+	apply(t, &zero, encode(t, delta(1, 2, "b=2")), api.OK)
+	stands(t, &zero, "a", "1", "b", "2")
+	var other annals.Store
+	apply(t, &other, encode(t, delta(0, 2, "b=2")), api.OK)
+	stands(t, &other, "b", "2")
 	var none *annals.Store
 	if n, err := none.Begin(); n != 0 || err != api.ErrNone {
 		t.Errorf("Begin of no store = %d, %d", n, err)
@@ -151,6 +160,10 @@ func TestP1OtherStores(t *testing.T) {
 	unpin(t, none, 0, api.ErrNone)
 	sweep(t, none, 0)
 	look(t, none, api.State{})
+	noStart(t, none, true, 0, 0, api.ErrNone)
+	noPiece(t, none, 1)
+	stop(t, none, 1, api.ErrNone)
+	apply(t, none, encode(t, delta(0, 1)), api.ErrNone)
 	if list, err := none.Scan(1, "", -1); len(list) != 0 || err != api.ErrNone {
 		t.Errorf("Scan of no store = %q, %d", list, err)
 	}

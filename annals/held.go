@@ -1,5 +1,10 @@
 package annals
 
+// has tells whether a state is there, neither swept nor yet to come.
+func (s *Store) has(state int) bool {
+	return state >= s.floor && state <= s.now
+}
+
 // leastHeld tells the least state that is held.
 func (s *Store) leastHeld() int {
 	least := s.now
@@ -8,6 +13,9 @@ func (s *Store) leastHeld() int {
 	}
 	for state := range s.pins {
 		least = min(least, state)
+	}
+	for _, x := range s.copyings {
+		least = min(least, x.leastNeeded())
 	}
 	return least
 }

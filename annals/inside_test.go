@@ -1,6 +1,6 @@
 package annals
 
-// What can't be brought about by calls alone yet: the last state of all, and calls that break off.
+// What can't be brought about, or seen, by calls alone: calls that break off, and what is kept.
 
 import (
 	"slices"
@@ -9,35 +9,6 @@ import (
 
 	"annals/api"
 )
-
-// P4: at the last state nothing more becomes; that is told ahead of a clash, and the work is not over.
-func TestP4LastState(t *testing.T) {
-	s := New()
-	s.now = api.MaxState - 1
-	for range 4 {
-		s.Begin()
-	}
-	s.Put(1, "a", "1")
-	s.Put(2, "a", "2")
-	s.Delete(3, "b")
-	wantCommit(t, s, 1, api.MaxState, api.OK)
-	for range 2 {
-		wantCommit(t, s, 2, 0, api.ErrFull)
-		wantCommit(t, s, 3, 0, api.ErrFull)
-	}
-	if v, err := s.Get(2, "a"); v != "2" || err != api.OK {
-		t.Errorf("Get(2, a) = %q, %d behind a refused Commit", v, err)
-	}
-	wantCommit(t, s, 4, api.MaxState-1, api.OK)
-	s.Begin()
-	if list, _ := s.Scan(5, "", -1); !slices.Equal(list, []api.Pair{{Key: "a", Value: "1"}}) {
-		t.Errorf("Scan at the last state = %q", list)
-	}
-	wantCommit(t, s, 5, api.MaxState, api.OK)
-	if err := s.Abort(2); err != api.OK {
-		t.Errorf("Abort(2) = %d", err)
-	}
-}
 
 func wantCommit(t *testing.T, s *Store, work, want int, wantErr api.Errno) {
 	t.Helper()
@@ -78,6 +49,48 @@ func TestP1BrokenSweepThrowsNothingAway(t *testing.T) {
 	delete(s.works, 9)
 	if n := s.Sweep(); n != 1 {
 		t.Errorf("Sweep behind it = %d", n)
+	}
+}
+
+// P1: nothing is left of a stream if the call that was to follow it breaks off.
+func TestP1BrokenFollowingIsPutRight(t *testing.T) {
+	s := New()
+	n, _ := s.Begin()
+	s.Put(n, "a", "1")
+	s.Put(n, "b", "1")
+	s.Commit(n)
+	before := s.Look()
+	follow := func() (err api.Errno) {
+		var c change
+		defer func() { c.settle(recover(), &err) }()
+		s.follow(&c, api.Stream{From: 1, To: 5, Records: []api.Record{{Key: "a", Gone: true}, {Key: "aa", Value: "5"}, {Key: "b", Value: "5"}}})
+		panic("broken")
+	}
+	if err := follow(); err == api.OK || s.Look() != before {
+		t.Errorf("a broken one answers %d and leaves %+v", err, s.Look())
+	}
+	if keys := s.past.Keys(""); !slices.Equal(keys, []string{"a", "b"}) || s.past.Last("a") != 1 || s.past.Last("b") != 1 {
+		t.Errorf("keys behind it: %q", keys)
+	}
+}
+
+// P8: nothing is left of copyings that are over.
+func TestP8OverLeavesNothing(t *testing.T) {
+	s := New()
+	n, _ := s.Begin()
+	s.Put(n, "a", "1")
+	s.Commit(n)
+	for range 3 {
+		n, _ := s.Start(true, 0, 1)
+		for range 3 {
+			s.Next(n)
+		}
+		n, _ = s.Start(false, 0, 1)
+		s.Next(n)
+		s.Stop(n)
+	}
+	if len(s.copyings) != 0 {
+		t.Errorf("copyings: %v", s.copyings)
 	}
 }
 

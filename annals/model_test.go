@@ -1,6 +1,6 @@
 package annals_test
 
-// P3 to P5 held against a plain model: every state kept whole, and a list of all versions.
+// P3 to P5, and P8 to P10, held against a plain model: every state kept whole, and a list of all versions.
 
 import (
 	"maps"
@@ -33,10 +33,15 @@ type model struct {
 	versions []modelVersion
 	pins     []int
 	floor    int
+	copies   map[int]*modelCopy
+	started  int
 }
 
 func newModel() *model {
-	return &model{states: []map[string]string{{}}, wrote: []map[string]int{nil}, works: map[int]*modelWork{}}
+	return &model{
+		states: []map[string]string{{}}, wrote: []map[string]int{nil},
+		works: map[int]*modelWork{}, copies: map[int]*modelCopy{},
+	}
 }
 
 func (m *model) now() int { return len(m.states) - 1 }
@@ -154,6 +159,9 @@ func (m *model) sweep() int {
 	for _, w := range m.works {
 		held = append(held, w.began)
 	}
+	for _, c := range m.copies {
+		held = append(held, c.states...)
+	}
 	m.floor = slices.Min(held)
 	of := map[string]int{} // each key's version of the floor
 	for _, v := range m.versions {
@@ -169,7 +177,9 @@ func (m *model) sweep() int {
 }
 
 func (m *model) look() api.State {
-	return api.State{Now: m.now(), Floor: m.floor, Open: len(m.works), Pins: len(m.pins), Versions: len(m.versions)}
+	return api.State{
+		Now: m.now(), Floor: m.floor, Open: len(m.works), Pins: len(m.pins), Versions: len(m.versions), Copies: len(m.copies),
+	}
 }
 
 func (m *model) abort(work int) api.Errno {
@@ -207,19 +217,29 @@ func pickWork(r *rand.Rand, m *model) int {
 }
 
 func TestModel(t *testing.T) {
-	for seed := range int64(20) {
+	for seed := range int64(30) {
 		r := rand.New(rand.NewSource(seed))
 		s, m := annals.New(), newModel()
+		if seed%3 == 0 {
+			x := chanceStream(r)
+			x.Full, x.From = true, 0
+			x.Records = slices.DeleteFunc(x.Records, func(r api.Record) bool { return r.Gone })
+			s, m = restored(t, x), restoredModel(x)
+		}
+		first := m.now()
 		for step := 0; step < 4000 && !t.Failed(); step++ {
-			if r.Intn(8) == 0 {
+			switch r.Intn(8) {
+			case 0:
 				heldStep(t, r, s, m)
-			} else {
+			case 1:
+				copyStep(t, r, s, m)
+			default:
 				modelStep(t, r, s, m)
 			}
 			look(t, s, m.look())
 		}
-		if m.now() < 50 || m.floor < 30 {
-			t.Errorf("seed %d: only %d states have become, %d below the floor", seed, m.now(), m.floor)
+		if m.now() < first+50 || m.floor < first+30 || m.started < 20 {
+			t.Errorf("seed %d: only %d states have become, %d below the floor, %d copyings", seed, m.now()-first, m.floor-first, m.started)
 		}
 	}
 }

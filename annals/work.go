@@ -5,7 +5,6 @@ import (
 	"maps"
 	"slices"
 
-	"annals/api"
 	"annals/past"
 )
 
@@ -37,23 +36,6 @@ func (s *Store) see(w *work, key string) (string, bool) {
 		v, found = s.past.At(key, w.began)
 	}
 	return v.Value, found && !v.Gone
-}
-
-// become makes what a work has put and deleted the next state. It finds a clash only on the way: what was added until
-// then is for the change to take back.
-func (s *Store) become(c *change, w *work) api.Errno {
-	state := s.now + 1
-	for _, key := range w.keys("") {
-		if s.past.Last(key) > w.began {
-			return api.ErrClash
-		}
-		v := w.writes[key]
-		v.State = state
-		s.past.Add(key, v)
-		c.undoBy(func() { s.past.Drop(key) })
-	}
-	assign(c, &s.now, state)
-	return api.OK
 }
 
 // merged goes through two rising lists of keys as one, each key once.

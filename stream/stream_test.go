@@ -127,8 +127,8 @@ func TestPieces(t *testing.T) {
 	for _, key := range []string{"a", "ab", "b", "c", "cd", "e"} {
 		records = append(records, api.Record{Key: key, Value: "v" + key})
 	}
-	var w writer
-	text := w.head(false, 3, 300) + w.block(records[:4]) + w.block(records[4:]) + w.tail()
+	var w Writer
+	text := w.Head(false, 3, 300) + w.Block(records[:4]) + w.Block(records[4:]) + w.Tail()
 	want, err := Write(api.Stream{From: 3, To: 300, Records: records})
 	if text != want || err != nil {
 		t.Errorf("the pieces are %q, want %q (%v)", text, want, err)

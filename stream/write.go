@@ -24,19 +24,19 @@ func Write(x api.Stream) (string, error) {
 	if err := judge(x); err != nil {
 		return "", err
 	}
-	var w writer
+	var w Writer
 	var text strings.Builder
-	text.WriteString(w.head(x.Full, x.From, x.To))
+	text.WriteString(w.Head(x.Full, x.From, x.To))
 	for records := range slices.Chunk(x.Records, api.MaxBlock) {
-		text.WriteString(w.block(records))
+		text.WriteString(w.Block(records))
 	}
-	text.WriteString(w.tail())
+	text.WriteString(w.Tail())
 	return text.String(), nil
 }
 
 // judge tells why something is no stream, nil if it is one.
 func judge(x api.Stream) error {
-	if !statesFit(x.Full, x.From, x.To) {
+	if !StatesFit(x.Full, x.From, x.To) {
 		return errStates
 	}
 	if len(x.Records) > api.MaxRecords {
@@ -57,8 +57,8 @@ func judge(x api.Stream) error {
 	return nil
 }
 
-// statesFit tells whether a stream can be from one state to another.
-func statesFit(full bool, from, to int) bool {
+// StatesFit tells whether a stream can be from one state to another.
+func StatesFit(full bool, from, to int) bool {
 	if !bounds.IsState(from) || !bounds.IsState(to) {
 		return false
 	}
@@ -68,14 +68,14 @@ func statesFit(full bool, from, to int) bool {
 	return from < to
 }
 
-// writer writes the text of a stream piece by piece: the head, the blocks, the tail.
-type writer struct {
+// Writer writes the text of a stream piece by piece: the head, the blocks, the tail. The zero Writer has written none.
+type Writer struct {
 	sum   check // of all pieces so far
 	count int   // of all records so far
 }
 
-// head tells what stands ahead of the blocks.
-func (w *writer) head(full bool, from, to int) string {
+// Head tells what stands ahead of the blocks.
+func (w *Writer) Head(full bool, from, to int) string {
 	kind := delta
 	if full {
 		kind = whole
@@ -85,8 +85,8 @@ func (w *writer) head(full bool, from, to int) string {
 	return piece
 }
 
-// block tells a block of at most MaxBlock records.
-func (w *writer) block(records []api.Record) string {
+// Block tells a block of 1 to MaxBlock records.
+func (w *Writer) Block(records []api.Record) string {
 	piece := number(len(records))
 	ahead := ""
 	for _, r := range records {
@@ -99,8 +99,8 @@ func (w *writer) block(records []api.Record) string {
 	return piece
 }
 
-// tail tells what stands behind the blocks.
-func (w *writer) tail() string {
+// Tail tells what stands behind the blocks.
+func (w *Writer) Tail() string {
 	piece := number(0) + number(w.count)
 	return piece + w.sum.over(piece).bytes()
 }
